@@ -1,0 +1,1 @@
+"""Recordgate: forms that say which things may pass."""
