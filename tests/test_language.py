@@ -1,7 +1,10 @@
-"""The package keeps to ../shared/LANGUAGE.md, as far as its rules can be seen in the code.
+"""The package keeps to ../shared/LANGUAGE.md: most of its rules, not all of them.
 
 Where a rule allows something in narrow places only, and the package has no need of it
-(sets, annotations), this asks for less: that it is not there at all.
+(sets, annotations), this asks for more: that it is not there at all.
+Not looked for: changes of what a loop walks (L23) or of a list or dict of a file's top (L15),
+how classes are handed on (L18), what stands within a try beyond one statement (L19),
+where isinstance and keywords take which values (L22), and all but __init__ of L28.
 """
 
 import ast
