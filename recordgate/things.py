@@ -20,13 +20,52 @@ def word_key(word):
     return (len(word), word)
 
 
+def word_after(word):
+    """The least word that is greater than a word."""
+    kept = word.rstrip("z")
+    if not kept:
+        return "a" * (len(word) + 1)
+    return kept[:-1] + LETTERS[LETTERS.index(kept[-1]) + 1] + "a" * (len(word) - len(kept))
+
+
+def free_word(taken):
+    """The least word that is not among those taken."""
+    word = "a"
+    while word in taken:
+        word = word_after(word)
+    return word
+
+
+def keys_of(holder):
+    """The parts of places that lead straight into a row or record, in order."""
+    if isinstance(holder, list):
+        return list(range(len(holder)))
+    return sorted(holder, key=word_key)
+
+
 def parts_of(thing):
     """What a thing holds, in order: tuples of a field (in a row the empty text) and a thing."""
     if isinstance(thing, list):
         return [("", part) for part in thing]
     if isinstance(thing, dict):
-        return [(field, thing[field]) for field in sorted(thing, key=word_key)]
+        return [(field, thing[field]) for field in keys_of(thing)]
     return []
+
+
+def copied(thing):
+    """The thing once more, with no row or record in common with it."""
+    holder = [thing]
+    waiting = [holder]
+    while waiting:
+        part = waiting.pop()
+        for key in keys_of(part):
+            if isinstance(part[key], list):
+                part[key] = list(part[key])
+                waiting.append(part[key])
+            elif isinstance(part[key], dict):
+                part[key] = dict(part[key])
+                waiting.append(part[key])
+    return holder[0]
 
 
 def walked(thing):
