@@ -1,6 +1,6 @@
 """What can be asked of forms, and forms made of them."""
 
-from recordgate.leanings import needed
+from recordgate.leanings import copied_form, needed
 from recordgate.search import Search
 from recordgate.things import copied, free_word
 
@@ -52,8 +52,3 @@ def with_one_more(forms, form):
     """A tuple of the least word that names none of the forms, and of these with one more of that name."""
     name = free_word([pair[0] for pair in forms])
     return (name, [(old, copied_form(old_form)) for old, old_form in forms] + [(name, form)])
-
-
-def copied_form(form):
-    """The form once more, with no list in common with it."""
-    return tuple([list(part) if isinstance(part, list) else part for part in form])

@@ -21,6 +21,27 @@ def named_in(form):
     return leans_on(form)
 
 
+def renamed(form, names):
+    """The form with lists of its own, each name of a form in it exchanged for the one that the dict has for it."""
+    sort = form[0]
+    if sort == "row":
+        return (sort, [(names[name], least, most) for name, least, most in form[1]])
+    if sort == "record":
+        return (sort, [(field, must, names[name]) for field, must, name in form[1]], form[2])
+    if sort in ("all", "some", "one"):
+        return (sort, [names[name] for name in form[1]])
+    if sort == "not":
+        return (sort, names[form[1]])
+    if sort == "look":
+        return (sort, form[1], form[2], names[form[3]], names[form[4]])
+    return copied_form(form)
+
+
+def copied_form(form):
+    """The form once more, with no list in common with it."""
+    return tuple([list(part) if isinstance(part, list) else part for part in form])
+
+
 def reached(names, steps):
     """All names that are come to from these, themselves too; steps is a dict from names to lists of names."""
     found = {}

@@ -1,6 +1,8 @@
-"""What several tests need: many small things, and a second telling of points 2 and 3."""
+"""What several tests need: many small things, forms at random, and second tellings of some points."""
 
 import itertools
+
+from recordgate.formtext import forms_text
 
 
 def nested(depth, inside):
@@ -173,6 +175,32 @@ def least_by_mask(forms, things):
         if mask not in found or plain_compared(thing, found[mask]) < 0:
             found[mask] = thing
     return found
+
+
+def plain_depth_of(forms, name):
+    """The depth of a form, told as point 5 tells it."""
+    form = dict(forms)[name]
+    leanings = {"all": form[1:2], "some": form[1:2], "one": form[1:2], "not": [form[1:]], "look": [form[3:]]}
+    return max([1 + plain_depth_of(forms, other) for names in leanings.get(form[0], []) for other in names], default=0)
+
+
+def plain_renamed(forms, names):
+    """The rows of the text of the forms with their names exchanged, told by where names stand (point 18)."""
+    rows = []
+    for line in forms_text(forms).split("\n"):
+        words = line.split(" ")
+        for k in [0] + name_places(words):
+            words[k] = names[words[k]]
+        rows.append(" ".join(words))
+    return rows
+
+
+def name_places(words):
+    """Where the names of other forms stand among the words of a row."""
+    places = list(range(len(words)))
+    behind = {"row": places[2::3], "record": places[5::3], "look": places[4:],
+              "all": places[2:], "some": places[2:], "one": places[2:], "not": places[2:]}
+    return behind.get(words[1], [])
 
 
 SORTS = "any number number word word row row row record record record all some one not look".split()

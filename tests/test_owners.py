@@ -7,7 +7,13 @@ import unittest
 from recordgate.asking import joined, least, met, outside, turned, unlike
 from recordgate.formtext import forms_of, forms_text
 from recordgate.gate import bar, lets, mask_of
+from recordgate.hall import judged
 from recordgate.kinds import kinds
+from recordgate.moved import lost, moved
+from recordgate.samples import samples
+from recordgate.short import depth, short
+from recordgate.things import compared, size_of
+from recordgate.thingtext import thing_of, thing_text
 from tests.helper import holders_in, random_forms, spoil
 
 FORMS = [
@@ -27,44 +33,79 @@ FORMS = [
 THING = {"b": [[], [], 0], "a": [], "c": "yy"}
 
 
-def all_answers(forms, thing):
-    """What is told of forms and a thing, by everything that can be asked."""
+OTHERS = [
+    ("any", ("any",)),
+    ("n", ("number", None, 1)),
+    ("w", ("word", [])),
+    ("twins", ("row", [("empty", 1, None), ("w", 0, 2)])),
+    ("empty", ("row", [])),
+    ("rec", ("record", [("b", True, "twins"), ("a", True, "twins")], True)),
+    ("both", ("one", ["rec", "any"])),
+    ("deep", ("row", [("rec", 2, 3)])),
+    ("alone", ("not", "rec")),
+]
+THINGS = [THING, [], [[], [], 5], "yy", THING, {"b": [[]], "a": [[]]}, [{"a": [], "b": [[], []]}] * 2, 3, -3]
+ATOMS = [1, "x", -1, 1]
+FIELDS = ["c", "a", "c"]
+
+
+def all_answers(forms, others, things, atoms, fields):
+    """What is told of forms, forms of another make and things, by every function of the interface."""
+    told = [kinds(forms), short(forms), moved(forms, others), moved(others, forms), forms_text(forms)]
+    told += [forms_of(forms_text(forms)), forms_of(forms_text(others))]
+    for thing, other in zip(things, things[1:] + things[:1]):
+        told += [mask_of(forms, thing), thing_text(thing), thing_of(thing_text(thing)), size_of(thing), compared(thing, other)]
     names = [name for name, _ in forms]
-    told = [kinds(forms), forms_of(forms_text(forms)), mask_of(forms, thing)]
     for one, other in zip(names, names[1:] + names[:1]):
-        told += [least(forms, one), outside(forms, one, other), unlike(forms, one, other)]
+        told += [least(forms, one), outside(forms, one, other), unlike(forms, one, other), depth(forms, one)]
         told += [met(forms, one, other), joined(forms, one, other), turned(forms, one)]
-        told += [bar(forms, one, thing), lets(forms, one, thing)]
+        told += [samples(forms, one, atoms, fields, 3)]
+        for thing in things:
+            told += [bar(forms, one, thing), lets(forms, one, thing), judged(forms_text(forms), one, thing_text(thing))]
+        if one in dict(others):
+            told += [lost(forms, others, one, things), lost(others, forms, one, things)]
     return told
 
 
 class OwnersTest(unittest.TestCase):
-    def check(self, forms, thing):
-        handed_in = copy.deepcopy((forms, thing))
-        told = all_answers(forms, thing)
-        self.assertEqual((forms, thing), handed_in)
+    def check(self, *handed_in):
+        before = copy.deepcopy(handed_in)
+        told = all_answers(*handed_in)
+        self.assertEqual(handed_in, before)
         kept = copy.deepcopy(told)
-        again = all_answers(forms, thing)
+        again = all_answers(*handed_in)
         self.assertEqual(again, kept)
-        holders = holders_in((told, again, forms, thing))
-        self.assertEqual(len({id(holder) for holder in holders}), len(holders))
+        given = {id(holder) for holder in holders_in(handed_in)}
+        holders = holders_in((told, again))
+        self.assertEqual(len({id(holder) for holder in holders} - given), len(holders))
         spoil(again)
         self.assertEqual(told, kept)
-        self.assertEqual((forms, thing), handed_in)
-        self.assertEqual(all_answers(forms, thing), kept)
+        self.assertEqual(handed_in, before)
+        self.assertEqual(all_answers(*handed_in), kept)
 
     def test_each_answer(self):
-        self.check(FORMS, THING)
-        self.check(FORMS[::-1], [THING])
+        self.check(FORMS, OTHERS, THINGS, ATOMS, FIELDS)
+        self.check(FORMS[::-1], OTHERS, THINGS[::-1], ATOMS[::-1], FIELDS[::-1])
+        self.check(OTHERS, FORMS, [], [], [])
+
+    def test_one_answer_after_the_other_is_spoilt(self):
+        told = all_answers(FORMS, OTHERS, THINGS[:2], ATOMS, FIELDS)
+        kept = copy.deepcopy(told)
+        for k in range(len(told)):
+            if holders_in(told[k]):
+                spoil(told[k])
+                self.assertEqual(told[k + 1:], kept[k + 1:])
 
     def test_forms_at_random(self):
         chance = random.Random(19)
+        things = [{"b": [0, "a", [1]], "a": {"g": 1}}, [0, "a"], {"a": "b", "g": []}, "w"]
         for _ in range(15):
-            self.check(random_forms(chance, 8), {"b": [0, "a", [1]], "a": {"g": 1}})
+            forms, others = random_forms(chance, 8), random_forms(chance, 8)
+            self.check(forms, others, things, [0, "a", 1], ["g", "a"])
 
     def test_order_of_fields_stays(self):
         thing = {"b": 1, "a": 2, "aa": {"d": 1, "c": 2}}
-        all_answers(FORMS, thing)
+        all_answers(FORMS, OTHERS, [thing], ATOMS, FIELDS)
         self.assertEqual([list(thing), list(thing["aa"])], [["b", "a", "aa"], ["d", "c"]])
 
     def test_a_thing_twice_within_what_is_told(self):
@@ -80,6 +121,17 @@ class OwnersTest(unittest.TestCase):
         told[1][1][1].append("y")
         self.assertEqual(names, ["any"])
         self.assertEqual(told[2], ("y", ("some", ["any"])))
+        names = ["n", "w"]
+        told = short([FORMS[1], FORMS[2], ("x", ("all", names)), ("y", ("one", names))])[0]
+        told[2][1][1].append("y")
+        self.assertEqual((names, told[3]), (["n", "w"], ("y", ("one", ["n", "w"]))))
+
+    def test_places_that_lost_tells(self):
+        things = [{"a": [], "b": [[], [], 5], "c": "x"}, {"a": [], "b": [[], []], "c": "x"}, {"a": [], "b": [[], [], 5]}]
+        told = lost(FORMS, [("any", ("any",)), ("rec", ("record", [("c", False, "no")], True)), ("no", ("not", "any"))], "rec", things)
+        self.assertEqual(told, [(0, ["c"], 3), (1, ["c"], 3)])
+        told[0][1].append(7)
+        self.assertEqual(told[1], (1, ["c"], 3))
 
     def test_what_was_told_may_be_handed_in_again(self):
         far = 10**60 - 1
